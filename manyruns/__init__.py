@@ -1,0 +1,1 @@
+"""Sayings about several runs at once."""
