@@ -1,4 +1,4 @@
-"""Whether a thing that is handed in, of any kind, is of a shape asked for."""
+"""Whether a thing that is handed in, of any kind, is of a shape asked for; tuples of choices."""
 
 from manyruns.rules import LETTERS
 
@@ -14,6 +14,12 @@ def is_pair(thing):
     return isinstance(thing, tuple) and len(thing) == 2
 
 
+def is_tuple_of(thing, choices, many):
+    """Whether it's a tuple of so many, each one of the choices, which are texts."""
+    return (isinstance(thing, tuple) and len(thing) == many
+            and all([one in choices for one in thing]))
+
+
 def is_rising(things):
     """Whether each of these, which can be compared, is above the one ahead."""
     return all([one < other for one, other in zip(things, things[1:])])
@@ -24,3 +30,11 @@ def is_names(thing, most):
     # Only what is known to be texts is compared: other things may not be.
     return (isinstance(thing, tuple) and 1 <= len(thing) <= most
             and all([is_name(one) for one in thing]) and is_rising(thing))
+
+
+def tuples_of(choices):
+    """All tuples that have one of each of these lists; rising where the lists are."""
+    found = [()]
+    for some in choices:
+        found = [begun + (one,) for begun in found for one in some]
+    return found

@@ -23,6 +23,13 @@ class RulesTest(unittest.TestCase):
     def test_the_bounds_of_tables(self):
         self.assertEqual((rules.MOVES, rules.MARKS, rules.LETTERS), (24, 4, 8))
 
+    def test_the_bounds_of_sayings(self):
+        self.assertEqual((rules.HEADS, rules.PARTS, rules.BACKS), (3, 12, 4))
+
+    def test_the_bounds_of_programs(self):
+        self.assertEqual((rules.HELD, rules.MOST, rules.SHOWN, rules.SHOWN_LETTERS), (7, 3, 4, 7))
+        self.assertEqual((rules.IN_TUPLES, rules.TUPLES), (8, 256))
+
     def test_all_are_plain_numbers(self):
         for name, value in vars(rules).items():
             if name.isupper():

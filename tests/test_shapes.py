@@ -1,14 +1,10 @@
-"""What a NAME, a pair and rising things are, by [2]."""
+"""What a NAME, a pair and rising things are, by [2]; tuples of choices."""
 
+import itertools
 import unittest
 
-from manyruns.shapes import is_name, is_names, is_pair, is_rising
-
-
-def nested(depth, inner, kind):
-    for _ in range(depth):
-        inner = kind([inner])
-    return inner
+from manyruns.shapes import is_name, is_names, is_pair, is_rising, is_tuple_of, tuples_of
+from tests.helpers import ODD_THINGS, nested
 
 
 NO_NAMES = (
@@ -71,6 +67,25 @@ class ShapesTest(unittest.TestCase):
                 self.assertIs(is_names((thing,), 2), False)
                 self.assertIs(is_names(("a", thing), 2), False)
                 self.assertIs(is_names((thing, "z"), 2), False)
+
+    def test_tuples_of_choices(self):
+        for many in range(4):
+            for thing in itertools.product("abc", repeat=many):
+                with self.subTest(thing=thing):
+                    self.assertIs(is_tuple_of(thing, ("a", "b"), many), "c" not in thing)
+                    self.assertIs(is_tuple_of(thing, ("a", "b", "c"), many + 1), False)
+                    self.assertIs(is_tuple_of(list(thing), ("a", "b", "c"), many), False)
+        for at, thing in enumerate(ODD_THINGS):
+            with self.subTest(at=at):
+                self.assertIs(is_tuple_of(thing, ("b",), 1), False)
+                self.assertIs(is_tuple_of(("b", thing), ("b",), 2), False)
+
+    def test_all_tuples_rising(self):
+        self.assertEqual(tuples_of([]), [()])
+        self.assertEqual(tuples_of([["a", "b"]]), [("a",), ("b",)])
+        self.assertEqual(tuples_of([["a", "b"], [], ["c"]]), [])
+        for choices in (("ab", "c", "abc"), ("abc", "abc"), ("a", "b", "cd")):
+            self.assertEqual(tuples_of([list(some) for some in choices]), list(itertools.product(*choices)))
 
 
 if __name__ == "__main__":

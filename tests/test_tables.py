@@ -5,6 +5,7 @@ import unittest
 
 from manyruns.errors import BadTable, LastMove
 from manyruns.tables import Table
+from tests.helpers import as_list, changed, kinds, nested
 
 STATES = ("a", "b", "c")
 MOVES = (("a", "a"), ("a", "b"), ("b", "a"), ("b", "c"), ("c", "c"))
@@ -19,34 +20,6 @@ def sample():
 
 def fields(table):
     return (table.states, table.moves, table.begins, table.shows)
-
-
-def kinds(thing):
-    """The thing's kind, and those of all that is in it."""
-    if isinstance(thing, (tuple, list)):
-        return (type(thing), [kinds(one) for one in thing])
-    return type(thing)
-
-
-def nested(depth, inner, kind):
-    for _ in range(depth):
-        inner = kind([inner])
-    return inner
-
-
-def as_list(thing):
-    """The lists in the tuples' stead, at each depth."""
-    return [as_list(one) for one in thing] if isinstance(thing, tuple) else thing
-
-
-def changed(thing, swap):
-    """All things that come of this one by swapping one thing in it, or itself."""
-    found = [swap(thing)]
-    if isinstance(thing, tuple):
-        for at, inner in enumerate(thing):
-            for one in changed(inner, swap):
-                found.append(thing[:at] + (one,) + thing[at + 1:])
-    return found
 
 
 class TableCase(unittest.TestCase):

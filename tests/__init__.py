@@ -1,0 +1,1 @@
+"""The program's tests."""
