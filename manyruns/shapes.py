@@ -20,6 +20,12 @@ def is_tuple_of(thing, choices, many):
             and all([one in choices for one in thing]))
 
 
+def is_truths(thing, many):
+    """Whether it's a tuple of so many truths."""
+    return (isinstance(thing, tuple) and len(thing) == many
+            and all([isinstance(one, bool) for one in thing]))
+
+
 def is_rising(things):
     """Whether each of these, which can be compared, is above the one ahead."""
     return all([one < other for one, other in zip(things, things[1:])])

@@ -3,7 +3,7 @@
 import itertools
 import unittest
 
-from manyruns.shapes import is_name, is_names, is_pair, is_rising, is_tuple_of, tuples_of
+from manyruns.shapes import is_name, is_names, is_pair, is_rising, is_truths, is_tuple_of, tuples_of
 from tests.helpers import ODD_THINGS, nested
 
 
@@ -79,6 +79,19 @@ class ShapesTest(unittest.TestCase):
             with self.subTest(at=at):
                 self.assertIs(is_tuple_of(thing, ("b",), 1), False)
                 self.assertIs(is_tuple_of(("b", thing), ("b",), 2), False)
+
+    def test_tuples_of_truths(self):
+        for many in range(4):
+            for thing in itertools.product((True, False), repeat=many):
+                with self.subTest(thing=thing):
+                    self.assertIs(is_truths(thing, many), True)
+                    self.assertIs(is_truths(thing, many + 1), False)
+                    self.assertIs(is_truths(list(thing), many), False)
+                    for odd in (1, 0, None, "", "a", (), (True,), [True]):
+                        self.assertIs(is_truths(thing + (odd,), many + 1), False)
+        for at, thing in enumerate(ODD_THINGS):
+            with self.subTest(at=at):
+                self.assertIs(is_truths(thing, 2), False)
 
     def test_all_tuples_rising(self):
         self.assertEqual(tuples_of([]), [()])
