@@ -6,9 +6,11 @@ import unittest
 
 from manyruns.bodies import is_saying, looks_back, parts_of
 from manyruns.errors import BadKind, TooGreat
-from manyruns.sides import Stepping, least_break, many_sides, shows_all, shows_break, side_by_side
+from manyruns.sides import least_break, refuse_sides, shows_all, shows_break, side_by_side
+from manyruns.stepping import many_sides
 from manyruns.tables import Table
 from manyruns.values import values_of
+from tests.handanswers import kept
 from tests.helpers import (ODD_THINGS, as_list, changed, deep_copy, full_table, kinds, random_body,
                            random_heads, random_table, ring_table, sample_table, true_at, walks_by_runs)
 
@@ -19,10 +21,6 @@ P = ("has", "p", "x")
 ALIKE = ("alike", "p", "q", ("x",))
 ASKS = (least_break, side_by_side, lambda table, saying: shows_break(table, saying, []),
         lambda table, saying: shows_all(table, saying, []))
-
-
-def kept(table, saying, walk):
-    return all(true_at(table, saying, walk, saying[1], step) for step in range(len(walk)))
 
 
 def break_by_hand(table, saying, most):
@@ -418,18 +416,14 @@ class RefusedTest(unittest.TestCase):
             body = ("not", body)
         self.assertEqual(least_break(ring_table(8), (THREE, body)), None)
 
-
-class SteppingTest(unittest.TestCase):
-
-    def test_sides_of_a_first_step_and_behind(self):
-        table, saying = sample_table(), (TWO, ("ahead", ALIKE))
-        stepping = Stepping(table, saying)
-        self.assertEqual((stepping.heads, len(stepping.rows)), (2, 2))
-        self.assertEqual(stepping.firsts(), [(states, (True, False)) for states in itertools.product("ac", repeat=2)])
-        self.assertEqual(stepping.behind((("b", "c"), (False, True))),
-                         [(("a", "c"), (True, False)), (("c", "c"), (True, False))])
-        self.assertEqual(stepping.behind((("b", "c"), (True, False))),
-                         [(("a", "c"), (True, True)), (("c", "c"), (True, True))])
+    def test_above_another_bound(self):
+        table, saying = ring_table(8), (TWO, P)
+        refuse_sides(table, saying, 64)
+        with self.assertRaises(TooGreat) as caught:
+            refuse_sides(table, saying, 63)
+        self.assertEqual(caught.exception.many, 64)
+        with self.assertRaises(BadKind):
+            refuse_sides(table, ((("some", "p"),), P), 0)
 
 
 if __name__ == "__main__":
