@@ -6,7 +6,6 @@ from manyruns.errors import BadKind, TooGreat
 from manyruns.rules import SETS, SIDES
 from manyruns.shapes import is_pair, is_rising, is_tuple_of
 from manyruns.stepping import all_come, is_side, is_true, many_sides
-from manyruns.walks import is_walk
 
 
 def _refuse(table, saying):
@@ -112,21 +111,17 @@ def ring_of(table, saying):
     return walk[:stem], walk[stem:]
 
 
-def _is_ring(table, many, thing):
-    if not is_pair(thing) or not isinstance(thing[0], list) or not isinstance(thing[1], list):
-        return False
-    stem, loop = thing
-    return len(loop) > 0 and is_walk(table, many, stem + loop + loop[:1])
-
-
 def shows_ring(table, saying, thing):
     """Whether it's a ring all of whose walks stand."""
     _refuse(table, saying)
-    if not _is_ring(table, Beside(table, saying).leading, thing):
+    if not is_pair(thing) or not isinstance(thing[0], list) or not isinstance(thing[1], list):
         return False
     stem, loop = thing
+    if not loop:
+        return False
     standing = Standing(table, saying)
     come = {}
+    # What is no walk, or does not close, leads to no node.
     node = _led_by(stem + loop, standing, ())
     # Where a node comes again, all that is behind it comes again, too.
     while node is not None and node not in come:

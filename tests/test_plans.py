@@ -437,6 +437,13 @@ class ShowsPlanTest(unittest.TestCase):
             for row in rows:
                 self.check(False, table, saying, ahead, plan[:-1] + [row])
                 self.check(False, table, saying, ahead, [row] + plan)
+            # Rows to which nothing comes are looked at, too.
+            fresh = (window, states, (False,) * len(values))
+            self.check(True, table, saying, ahead, plan + [(fresh, nexts, others)])
+            for odd in (others[1:], others + ("a",), list(others), ("z",) * len(others), None, "a", ((),)):
+                self.check(False, table, saying, ahead, plan + [(fresh, nexts, odd)])
+            for odd in (nexts[1:], nexts + nexts[-1:], list(nexts), ("z",) * len(nexts), None, "a", ((),)):
+                self.check(False, table, saying, ahead, plan + [(fresh, odd, others)])
             self.check(False, table, saying, ahead, as_list(tuple(plan)))
             self.check(False, table, saying, ahead, [plan])
 
