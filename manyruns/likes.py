@@ -83,7 +83,8 @@ def _rows_on(table, seen, rows):
     for row, states in rows.items():
         nexts = table.begins if states is None else [other for one, other in table.moves if one in states]
         for state in nexts:
-            found.setdefault(row + (seen[state],), {})[state] = True
+            there = found.setdefault(row + (seen[state],), {})
+            there[state] = True
     return found
 
 

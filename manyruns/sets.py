@@ -93,7 +93,7 @@ def _is_entry(table, beside, thing):
 def _has_within(fews, node):
     """Whether one of the fews that stand by the node's states has no side but of the node's few."""
     states, most = node
-    there = {side: True for side in most}
+    there = {one: True for one in most}
     return any([all([side in there for side in few]) for few in fews.get(states, [])])
 
 
@@ -103,12 +103,13 @@ def shows_answered(table, saying, thing):
     beside = Beside(table, saying)
     if not isinstance(thing, list) or not all([_is_entry(table, beside, one) for one in thing]):
         return False
+    entries = {entry: True for entry in thing}
     fews = {}
-    for states, few in thing:
+    for states, few in entries:
         fews.setdefault(states, []).append(few)
     if not all([_has_within(fews, node) for node in beside.first_nodes()]):
         return False
-    for entry in thing:
+    for entry in entries:
         if not all([_has_within(fews, node) for node in beside.nodes_behind(entry)]):
             return False
     return True

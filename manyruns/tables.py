@@ -36,7 +36,7 @@ class Table:
     def without(self, moves):
         """The table otherwise alike that has none of these moves."""
         kept = tuple([move for move in self.moves if move not in moves])
-        lost = _first_still(kept, self.states)
+        lost = first_still(kept, self.states)
         if lost is not None:
             raise LastMove(lost)
         return Table(self.states, kept, begins=self.begins, shows=self.shows)
@@ -52,7 +52,7 @@ class Table:
         return f"Table({len(self.states)})"
 
 
-def _first_still(moves, states):
+def first_still(moves, states):
     """The first state with which none of these moves begins; None."""
     firsts = [one for one, _ in moves]
     for state in states:
@@ -68,7 +68,7 @@ def _is_move(thing, states):
 def _are_moves(thing, states):
     return (isinstance(thing, tuple) and len(thing) <= MOVES
             and all([_is_move(one, states) for one in thing]) and is_rising(thing)
-            and _first_still(thing, states) is None)
+            and first_still(thing, states) is None)
 
 
 def _are_begins(thing, states):

@@ -2,53 +2,16 @@
 
 import itertools
 import random
-import re
 import unittest
 
 from manyruns.errors import BadRow
 from manyruns.tables import Table
 from manyruns.tabletexts import TableReading, table_in, table_text
+from tests.handtexts import told_row
 from tests.helpers import full_table, kinds, random_table, ring_table, sample_table
 
 SAMPLE = ("state a x\nstate b\nstate c x y\nbegin a\nbegin c\n"
           "move a a\nmove a b\nmove b a\nmove b c\nmove c c")
-NAME = "[a-z]{1,8}"
-ROWS = (re.compile(f"state ({NAME})((?: {NAME}){{0,4}})"), re.compile(f"begin ({NAME})"),
-        re.compile(f"move ({NAME}) ({NAME})"))
-
-
-def rises(things):
-    return list(things) == sorted(things) and len(things) == len(set(things))
-
-
-def rows_stand(rows):
-    """Whether these rows may stand one behind the other, straight by the words of [9]."""
-    told = []
-    for row in rows:
-        matches = [(kind, form.fullmatch(row)) for kind, form in enumerate(ROWS)]
-        told += [(kind, match.groups()) for kind, match in matches if match]
-    kinds_told = [kind for kind, _ in told]
-    if len(told) < len(rows) or kinds_told != sorted(kinds_told):
-        return False
-    states = [words[0] for kind, words in told if kind == 0]
-    marks = [words[1].split() for kind, words in told if kind == 0]
-    begins = [words[0] for kind, words in told if kind == 1]
-    moves = [words for kind, words in told if kind == 2]
-    return (rises(states) and len(states) <= 8 and all(rises(some) for some in marks) and rises(begins)
-            and rises(moves) and len(moves) <= 24 and set(begins) <= set(states)
-            and {state for move in moves for state in move} <= set(states))
-
-
-def told_row(text):
-    """The number that BadRow tells; None."""
-    rows = text.split("\n")
-    for at in range(len(rows)):
-        if not rows_stand(rows[:at + 1]):
-            return at
-    words = [row.split(" ") for row in rows]
-    states = {row[1] for row in words if row[0] == "state"}
-    begins = [row for row in words if row[0] == "begin"]
-    return None if begins and states == {row[1] for row in words if row[0] == "move"} else len(rows)
 
 
 class TextCase(unittest.TestCase):
